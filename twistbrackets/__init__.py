@@ -1,0 +1,1 @@
+"""Twistbrackets: sums of brackets of letters, and their plain sums."""
