@@ -3,53 +3,11 @@ import itertools
 import math
 import unittest
 
+from oracle import brackets_of_weight, expected_words, nested_left, nested_right
 from twistbrackets.brackets import weight, words_of
 
 AB = ("a", "b")
 BALANCED_8 = ((("a", "b"), ("b", "c")), (("c", "a"), ("a", "b")))
-
-
-def nested_left(first, letters):
-    bracket = first
-    for letter in letters:
-        bracket = (bracket, letter)
-    return bracket
-
-
-def nested_right(letters, last):
-    bracket = last
-    for letter in reversed(letters):
-        bracket = (letter, bracket)
-    return bracket
-
-
-def arrangements(bracket):
-    """All signed words of a bracket, one for each choice of order at each tuple, not put together."""
-    if isinstance(bracket, str):
-        return [(1, bracket)]
-    told = []
-    for (sign, word), (other_sign, other) in itertools.product(*map(arrangements, bracket)):
-        told.append((sign * other_sign, word + other))
-        told.append((-sign * other_sign, other + word))
-    return told
-
-
-def expected_words(total):
-    signed = [(times * sign, word) for times, bracket in total for sign, word in arrangements(bracket)]
-    words = sorted(sorted({word for count, word in signed}), key=len)
-    told = [(word, sum(count for count, other in signed if other == word)) for word in words]
-    return [(word, count) for word, count in told if count]
-
-
-def brackets_of_weight(size):
-    if size == 1:
-        return ["a", "b", "c"]
-    return [
-        (first, second)
-        for split in range(1, size)
-        for first in brackets_of_weight(split)
-        for second in brackets_of_weight(size - split)
-    ]
 
 
 class WeightTest(unittest.TestCase):

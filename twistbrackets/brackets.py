@@ -3,6 +3,9 @@
 Within the program, words and their counts are reckoned with as a dict from word to count.
 """
 
+LETTERS = ("a", "b", "c")
+GREATEST_WEIGHT = 8
+
 
 def weight(bracket):
     if isinstance(bracket, str):
@@ -22,16 +25,17 @@ def length_first(word):
 def sum_counts(total):
     counts = {}
     for times, bracket in total:
-        for word, count in bracket_counts(bracket).items():
-            add_count(counts, word, times * count)
+        add_counts(counts, times, bracket_counts(bracket))
     return without_noughts(counts)
 
 
 def bracket_counts(bracket):
     if isinstance(bracket, str):
         return {bracket: 1}
-    first = bracket_counts(bracket[0])
-    second = bracket_counts(bracket[1])
+    return twisted(bracket_counts(bracket[0]), bracket_counts(bracket[1]))
+
+
+def twisted(first, second):
     counts = {}
     for ahead, ahead_count in first.items():
         for behind, behind_count in second.items():
@@ -40,6 +44,11 @@ def bracket_counts(bracket):
             add_count(counts, behind + ahead, -product)
     # Dropped at each step, so that a part that is nought costs nothing further out.
     return without_noughts(counts)
+
+
+def add_counts(counts, times, added):
+    for word, count in added.items():
+        add_count(counts, word, times * count)
 
 
 def add_count(counts, word, count):
